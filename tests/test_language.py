@@ -1,0 +1,200 @@
+"""The package's own files keep to the small part of Python; what a walk over them can see of the rules."""
+
+import ast
+import builtins
+import pathlib
+import re
+import unittest
+
+PACKAGE = pathlib.Path(__file__).resolve().parent.parent / "worldfind"
+
+ERRORS = """Exception ValueError TypeError KeyError IndexError LookupError ZeroDivisionError ArithmeticError
+    OverflowError RuntimeError NotImplementedError AttributeError StopIteration""".split()
+OWN_NAMES = ERRORS + """len range enumerate zip min max sum abs sorted reversed int str bool list tuple dict set
+    frozenset isinstance ord repr any all divmod""".split()
+METHODS = """append clear copy count endswith extend find get index insert isalnum isalpha isdigit islower isspace
+    isupper items join keys ljust lower lstrip partition pop remove replace reverse rfind rjust rpartition rsplit
+    rstrip setdefault split splitlines startswith strip update upper values zfill bit_length""".split()
+TWO_UNDERSCORES = ["__init__", "__eq__", "__repr__", "__str__", "__len__"]
+OUT_WORDS = """type typing typing_extensions enum Enum IntEnum StrEnum Flag IntFlag Generic Protocol ABC ABCMeta
+    namedtuple NamedTuple TypedDict TYPE_CHECKING abstractmethod""".split()
+OUT_PARTS = ["dataclass", "overload", "contextmanager"]
+OUT_NAMES = """register mro elements open input version_info with_traceback add_note attrgetter breakpoint builtins
+    compile copyright credits delattr dir eval exec exit gc getattr globals hasattr help id importlib license locals
+    methodcaller os quit setattr super type vars sys format format_map""".split()
+STATEMENTS = (
+    ast.FunctionDef, ast.ClassDef, ast.Assign, ast.AugAssign, ast.If, ast.While, ast.For, ast.Return, ast.Break,
+    ast.Continue, ast.Pass, ast.Raise, ast.Try, ast.Expr, ast.ImportFrom,
+)
+OUT_EXPRESSIONS = (
+    ast.SetComp, ast.DictComp, ast.GeneratorExp, ast.NamedExpr, ast.Starred, ast.Await, ast.Yield, ast.YieldFrom,
+    ast.Div, ast.MatMult,
+)
+PYTHONS_OWN = (str, int, list, dict, set, bytes, tuple)
+
+
+def files():
+    return sorted(path for path in PACKAGE.rglob("*") if "__pycache__" not in path.parts)
+
+
+def trees():
+    return [(path.name, ast.parse(path.read_text())) for path in files()]
+
+
+def nodes(*sorts):
+    return [(name, node) for name, tree in trees() for node in ast.walk(tree) if isinstance(node, sorts)]
+
+
+def bound_names(node):
+    if isinstance(node, (ast.FunctionDef, ast.ClassDef)):
+        return [node.name]
+    if isinstance(node, ast.Name) and isinstance(node.ctx, ast.Store):
+        return [node.id]
+    if isinstance(node, ast.arg):
+        return [node.arg]
+    return []
+
+
+class Files(unittest.TestCase):
+    def test_plain_files_alone(self):
+        self.assertIn(PACKAGE / "__init__.py", files())
+        for path in files():
+            self.assertRegex(path.name, r"^([a-z][a-z0-9_]*|__init__)\.py$")
+            self.assertNotIn(path.stem, dir(builtins) + OUT_WORDS + OUT_NAMES)
+
+    def test_signs_and_lengths(self):
+        for path in files():
+            text = path.read_bytes().decode("ascii")
+            self.assertRegex(text, r"\A[ -~\n]*\n\Z", path.name)
+            rows = text.split("\n")
+            self.assertLessEqual(len(rows), 401, path.name)
+            self.assertLessEqual(max(len(row) for row in rows), 120, path.name)
+
+    def test_words_that_stand_nowhere(self):
+        for path in files():
+            text = path.read_text()
+            words = re.findall(r"\w+", text)
+            self.assertEqual([word for word in words if word in OUT_WORDS], [], path.name)
+            self.assertEqual([part for part in OUT_PARTS if part in text], [], path.name)
+
+
+class Tops(unittest.TestCase):
+    def test_what_stands_there(self):
+        for name, tree in trees():
+            self.assertIsNotNone(ast.get_docstring(tree), name)
+            for node in tree.body[1:]:
+                self.assertIsInstance(node, (ast.ImportFrom, ast.FunctionDef, ast.ClassDef, ast.Assign), name)
+
+    def test_each_name_once(self):
+        for name, tree in trees():
+            names = []
+            for node in tree.body:
+                if isinstance(node, ast.ImportFrom):
+                    names += [alias.asname or alias.name for alias in node.names]
+                elif isinstance(node, ast.Assign):
+                    names += [target.id for target in node.targets]
+                else:
+                    names += bound_names(node)
+            self.assertEqual(len(names), len(set(names)), name)
+
+    def test_imports_name_the_package_s_own_and_make_no_ring(self):
+        drawn = {path.stem: [] for path in files()}
+        for name, node in nodes(ast.Import, ast.ImportFrom):
+            self.assertIsInstance(node, ast.ImportFrom, name)
+            self.assertEqual(node.level, 0, name)
+            package, dot, module = node.module.partition(".")
+            self.assertEqual(package, "worldfind", name)
+            self.assertIn(module, drawn, name)
+            drawn[name[:-3]].append(module)
+        while drawn:
+            free = [name for name in drawn if not [module for module in drawn[name] if module in drawn]]
+            self.assertTrue(free, drawn)
+            for name in free:
+                drawn.pop(name)
+
+
+class Statements(unittest.TestCase):
+    def test_known_ones_alone(self):
+        for name, node in nodes(ast.stmt):
+            self.assertIsInstance(node, STATEMENTS, (name, node.lineno))
+
+    def test_forms(self):
+        for name, node in nodes(ast.Assign):
+            self.assertEqual(len(node.targets), 1, (name, node.lineno))
+        for name, node in nodes(ast.For, ast.While):
+            self.assertEqual(node.orelse, [], (name, node.lineno))
+        for name, node in nodes(ast.Try):
+            self.assertEqual(node.finalbody, [], (name, node.lineno))
+        for name, node in nodes(ast.ExceptHandler):
+            self.assertIsNotNone(node.type, (name, node.lineno))
+
+    def test_functions(self):
+        for name, node in nodes(ast.FunctionDef):
+            self.assertLessEqual(node.end_lineno - node.lineno + 1, 40, (name, node.name))
+            self.assertEqual(node.decorator_list, [], (name, node.name))
+            arguments = node.args
+            self.assertEqual(
+                [arguments.vararg, arguments.kwarg, arguments.kwonlyargs, arguments.posonlyargs],
+                [None, None, [], []], (name, node.name))
+
+    def test_classes(self):
+        for name, node in nodes(ast.ClassDef):
+            self.assertEqual((node.decorator_list, node.keywords), ([], []), (name, node.name))
+            self.assertLessEqual(len(node.bases), 1, (name, node.name))
+            for part in node.body:
+                self.assertIsInstance(part, (ast.FunctionDef, ast.Pass), (name, node.name))
+
+
+class Expressions(unittest.TestCase):
+    def test_none_that_are_out(self):
+        for name, node in nodes(*OUT_EXPRESSIONS):
+            self.fail((name, node))
+        for name, node in nodes(ast.Constant):
+            self.assertNotIsInstance(node.value, (float, complex, bytes), (name, node.lineno))
+            if isinstance(node.value, str):
+                self.assertNotIn("%", node.value, (name, node.lineno))
+
+    def test_comprehensions(self):
+        for name, node in nodes(ast.ListComp):
+            self.assertEqual(len(node.generators), 1, (name, node.lineno))
+            self.assertLessEqual(len(node.generators[0].ifs), 1, (name, node.lineno))
+
+    def test_powers_have_a_written_exponent(self):
+        for name, node in nodes(ast.BinOp, ast.AugAssign):
+            if isinstance(node.op, ast.Pow):
+                power = node.right if isinstance(node, ast.BinOp) else node.value
+                self.assertIsInstance(power, ast.Constant, (name, node.lineno))
+
+    def test_is_beside_none_and_truths_alone(self):
+        for name, node in nodes(ast.Compare):
+            for sign, right in zip(node.ops, node.comparators):
+                if isinstance(sign, (ast.Is, ast.IsNot)):
+                    self.assertIsInstance(right, ast.Constant, (name, node.lineno))
+                    self.assertIn(right.value, (None, True, False), (name, node.lineno))
+
+
+class Names(unittest.TestCase):
+    def test_python_s_own(self):
+        for name, node in nodes(ast.Name):
+            self.assertNotIn(node.id, OUT_NAMES, (name, node.lineno))
+            if hasattr(builtins, node.id):
+                self.assertIn(node.id, OWN_NAMES, (name, node.lineno))
+
+    def test_own_ones_are_plain(self):
+        for name, node in nodes(ast.AST):
+            for bound in bound_names(node):
+                if bound not in TWO_UNDERSCORES:
+                    self.assertRegex(bound, r"^[A-Za-z][A-Za-z0-9_]*$", name)
+                    self.assertFalse(hasattr(builtins, bound), (name, bound))
+                    self.assertNotIn(bound, OUT_NAMES, name)
+
+    def test_methods_and_values(self):
+        for name, node in nodes(ast.Attribute):
+            self.assertNotIn(node.attr, OUT_NAMES, (name, node.lineno))
+            if node.attr not in METHODS + TWO_UNDERSCORES + ["add", "discard"]:
+                owners = [owner for owner in PYTHONS_OWN if hasattr(owner, node.attr)]
+                self.assertEqual(owners, [], (name, node.lineno, node.attr))
+
+
+if __name__ == "__main__":
+    unittest.main()

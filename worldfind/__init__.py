@@ -1,0 +1,1 @@
+"""Worldfind: worlds that keep sayings about ties."""
