@@ -188,6 +188,37 @@ class Names(unittest.TestCase):
                     self.assertFalse(hasattr(builtins, bound), (name, bound))
                     self.assertNotIn(bound, OUT_NAMES, name)
 
+    def test_locals_are_called_otherwise_than_imports_and_classes(self):
+        for name, tree in trees():
+            drawn = [alias.name for node in tree.body if isinstance(node, ast.ImportFrom) for alias in node.names]
+            drawn += [node.name for node in tree.body if isinstance(node, ast.ClassDef)]
+            for part in tree.body:
+                inner = [node for node in ast.walk(part) if isinstance(node, (ast.Name, ast.arg))]
+                for bound in [bound for node in inner for bound in bound_names(node)]:
+                    self.assertNotIn(bound, drawn, name)
+
+    def test_no_name_is_a_method_and_a_value(self):
+        parts = [part for name, node in nodes(ast.ClassDef) for part in node.body]
+        methods = [part.name for part in parts if isinstance(part, ast.FunctionDef)]
+        for name, node in nodes(ast.Attribute):
+            if isinstance(node.ctx, ast.Store):
+                self.assertNotIn(node.attr, methods, (name, node.lineno))
+
+    def test_lists_and_dicts_of_a_top_are_only_read(self):
+        for name, tree in trees():
+            tops = [node for node in tree.body if isinstance(node, ast.Assign)]
+            kept = [node.targets[0].id for node in tops if isinstance(node.value, (ast.List, ast.Dict))]
+            for node in tops:
+                inner = [one for one in ast.walk(node.value) if isinstance(one, (ast.List, ast.Dict))]
+                self.assertIn(inner, ([], [node.value]), (name, node.lineno))
+            for node in ast.walk(tree):
+                handed = node.args if isinstance(node, ast.Call) else []
+                handed = [node.value] if isinstance(node, (ast.Return, ast.Assign)) else handed
+                for one in handed:
+                    self.assertFalse(isinstance(one, ast.Name) and one.id in kept, (name, node.lineno))
+                if isinstance(node, ast.Subscript) and isinstance(node.value, ast.Name) and node.value.id in kept:
+                    self.assertIsInstance(node.ctx, ast.Load, (name, node.lineno))
+
     def test_methods_and_values(self):
         for name, node in nodes(ast.Attribute):
             self.assertNotIn(node.attr, OUT_NAMES, (name, node.lineno))
