@@ -1,7 +1,10 @@
-"""What the tests hold the program against: ties as sets of pairs, the document's points 8, 9, 13 and 14 word by word.
+"""What the tests hold the program against: ties as sets of pairs, and the document's points 8, 9, 13, 14, 16, 19 and 20
+word by word.
 
 Nothing here is drawn from the program itself.
 """
+
+import itertools
 
 TWOS = ["plus", "less", "both", "joined"]
 ONES = ["turned", "closed"]
@@ -178,6 +181,14 @@ def parts_of_world(words, size, number):
     return (size, tuple(values[:len(words[0])]), tuple(values[len(words[0]):]))
 
 
+def code_of_world(words, world):
+    """The number that parts_of_world takes the world from."""
+    size, kinds, ties = world
+    widths = [size] * len(words[0]) + [size * size] * len(words[1])
+    places = [sum(widths[:number]) for number in range(len(widths))]
+    return sum(value * 2 ** place for value, place in zip(kinds + ties, places))
+
+
 def how_many_bits(words, size):
     return size * len(words[0]) + size * size * len(words[1])
 
@@ -251,3 +262,115 @@ def some_saying(words, depth, chance):
     sort = chance.choice(["not", "and", "or"])
     number = 1 if sort == "not" else 2
     return (sort,) + tuple(some_saying(words, depth - 1, chance) for place in range(number))
+
+
+def keeps_all(theory, world):
+    words, sayings = theory
+    return all(is_kept(words, world, saying) for saying in sayings)
+
+
+def open_part(words, size):
+    """The part-known world in which nothing is known but the size."""
+    full = 2 ** how_many_bits(words, size) - 1
+    return (parts_of_world(words, size, 0), parts_of_world(words, size, full))
+
+
+def has_bit(words, world, name, a, b):
+    return (a, b) in pairs_of_name(words, world, name)
+
+
+def with_bit(words, world, name, a, b, is_set):
+    """The world with the one bit set, or not set, and all others as they were."""
+    size, kinds, ties = world
+    if name in words[0]:
+        place = words[0].index(name)
+        things = {thing for thing in range(size) if kinds[place] // 2 ** thing % 2 == 1} - {a}
+        kind = sum(2 ** thing for thing in things | ({a} if is_set else set()))
+        return (size, kinds[:place] + (kind,) + kinds[place + 1:], ties)
+    place = words[1].index(name)
+    pairs = pairs_from_number(size, ties[place]) - {(a, b)} | ({(a, b)} if is_set else set())
+    return (size, kinds, ties[:place] + (number_from_pairs(size, pairs),) + ties[place + 1:])
+
+
+def halves_of(words, part, name, a, b):
+    """The part-known worlds in which the bit is set in low, too, and is not set in high, either."""
+    low, high = part
+    return (with_bit(words, low, name, a, b, True), high), (low, with_bit(words, high, name, a, b, False))
+
+
+def open_bits(words, part):
+    """All (name, a, b) that are not set in low, but in high."""
+    size = part[0][0]
+    bits = [(name, a, a) for name in words[0] for a in range(size)]
+    bits += [(name, a, b) for name in words[1] for a, b in sorted(all_pairs(size))]
+    return [bit for bit in bits if has_bit(words, part[1], *bit) and not has_bit(words, part[0], *bit)]
+
+
+def is_text(thing, *texts):
+    return type(thing) is str and thing in texts
+
+
+def is_number(thing, end):
+    return type(thing) is int and 0 <= thing < end
+
+
+def paper_shows(theory, part, paper):
+    words, sayings = theory
+    if type(paper) is not tuple or len(paper) not in (2, 6):
+        return False
+    if len(paper) == 2:
+        if not is_text(paper[0], "broken") or not is_number(paper[1], len(sayings)):
+            return False
+        return truth_of(words, part, sayings[paper[1]]) is False
+    sort, name, a, b, yes, no = paper
+    size = part[0][0]
+    if not is_text(sort, "split") or not is_text(name, *words[0], *words[1]):
+        return False
+    if not is_number(a, size) or not is_number(b, size) or (name, a, b) not in open_bits(words, part):
+        return False
+    halves = halves_of(words, part, name, a, b)
+    return paper_shows(theory, halves[0], yes) and paper_shows(theory, halves[1], no)
+
+
+def paper_holds(theory, size, paper):
+    return paper_shows(theory, open_part(theory[0], size), paper)
+
+
+def some_paper(theory, part, chance):
+    """A paper that holds, its splits by chance; None where a world keeps the theory."""
+    words, sayings = theory
+    truths = [truth_of(words, part, saying) for saying in sayings]
+    if False in truths:
+        return ("broken", chance.choice([number for number, truth in enumerate(truths) if truth is False]))
+    bits = open_bits(words, part)
+    if not bits:
+        return None
+    bit = chance.choice(bits)
+    papers = [some_paper(theory, half, chance) for half in halves_of(words, part, *bit)]
+    return None if None in papers else ("split",) + bit + tuple(papers)
+
+
+def all_renamings(size):
+    return [tuple(row) for row in itertools.permutations(range(size))]
+
+
+def world_renamed(words, world, renaming):
+    size, kinds, ties = world
+    new_kinds = []
+    for kind in kinds:
+        things = {renaming[a] for a in range(size) if kind // 2 ** a % 2 == 1}
+        new_kinds.append(sum(2 ** thing for thing in things))
+    new_ties = []
+    for tie in ties:
+        pairs = {(renaming[a], renaming[b]) for a, b in pairs_from_number(size, tie)}
+        new_ties.append(number_from_pairs(size, pairs))
+    return (size, tuple(new_kinds), tuple(new_ties))
+
+
+def worlds_alike(words, world):
+    """All worlds alike to one, each once."""
+    return {world_renamed(words, world, renaming) for renaming in all_renamings(world[0])}
+
+
+def least_alike(words, world):
+    return min(worlds_alike(words, world), key=lambda one: code_of_world(words, one))

@@ -26,12 +26,6 @@ def part_of_ties(size, low, high, other_low=(), other_high=()):
     return ((size, (0,), lows), (size, (0,), highs))
 
 
-def open_part(words, size):
-    """The part-known world in which nothing is known but the size."""
-    full = 2 ** model.how_many_bits(words, size) - 1
-    return (model.parts_of_world(words, size, 0), model.parts_of_world(words, size, full))
-
-
 class Case(unittest.TestCase):
     def check_bounds(self, words, part, expression):
         answer = bounds(words, part, expression)
@@ -83,7 +77,7 @@ class Bounds(Case):
     def test_each_sort_at_greater_sizes(self):
         chance = random.Random(31)
         for size in SIZES:
-            for part in [open_part(WORDS, size)] + [model.some_part(WORDS, size, chance) for place in range(40)]:
+            for part in [model.open_part(WORDS, size)] + [model.some_part(WORDS, size, chance) for place in range(40)]:
                 for expression in model.flat_expressions(WORDS):
                     self.check_bounds(WORDS, part, expression)
 
@@ -240,7 +234,7 @@ class Told(Case):
     def test_not_and_or(self):
         facts = {True: ("some", ("all",)), False: ("some", ("none",)), None: ("some", R)}
         for size in range(1, 5):
-            part = open_part(WORDS, size)
+            part = model.open_part(WORDS, size)
             for one in TRUTHS:
                 self.assertIs(told(WORDS, part, facts[one]), one)
                 self.assertIs(told(WORDS, part, ("not", facts[one])), None if one is None else not one)
@@ -254,7 +248,7 @@ class Told(Case):
 
     def test_open_although_all_worlds_agree(self):
         for size in range(1, 5):
-            part = open_part(WORDS, size)
+            part = model.open_part(WORDS, size)
             for saying in (("in", R, R), ("equal", R, R), ("no", ("less", R, R)), ("or", ("some", R), ("no", R)),
                            ("and", ("some", R), ("no", R)), ("in", R, ("closed", R))):
                 self.assertIs(told(WORDS, part, saying), None, saying)

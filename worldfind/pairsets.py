@@ -9,13 +9,19 @@ def pairs_of(size, tie):
     return [divmod(place, size) for place in range(size * size) if (tie >> place) & 1]
 
 
-def tie_of(size, pairs):
+# Of pairs that the program made itself: a search asks for so many that it shows whether they are checked.
+def gathered(size, pairs):
     tie = 0
+    for a, b in pairs:
+        tie = tie | (1 << (a * size + b))
+    return tie
+
+
+def tie_of(size, pairs):
     for a, b in pairs:
         if not is_below(a, size) or not is_below(b, size):
             raise NoPair("a pair is of two things of the size")
-        tie = tie | (1 << (a * size + b))
-    return tie
+    return gathered(size, pairs)
 
 
 def common(one, other):
@@ -31,7 +37,7 @@ def without(one, other):
 
 
 def turned(size, tie):
-    return tie_of(size, [(b, a) for a, b in pairs_of(size, tie)])
+    return gathered(size, [(b, a) for a, b in pairs_of(size, tie)])
 
 
 def joined(size, one, other):
@@ -53,7 +59,7 @@ def closed(size, tie):
 
 
 def same(size):
-    return tie_of(size, [(a, a) for a in range(size)])
+    return gathered(size, [(a, a) for a in range(size)])
 
 
 def every(size):

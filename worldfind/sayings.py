@@ -1,6 +1,6 @@
 """The value of an expression in a world, and whether a world keeps a saying."""
 
-from worldfind.pairsets import closed, common, either, every, joined, pairs_of, same, tie_of, turned, without
+from worldfind.pairsets import closed, common, either, every, gathered, joined, pairs_of, same, turned, without
 
 
 def value_of_name(words, world, name):
@@ -8,7 +8,7 @@ def value_of_name(words, world, name):
         return world[2][words[1].index(name)]
     size = world[0]
     kind = world[1][words[0].index(name)]
-    return tie_of(size, [(a, a) for a in range(size) if (kind >> a) & 1])
+    return gathered(size, [(a, a) for a in range(size) if (kind >> a) & 1])
 
 
 # Apart from `value`, since the bounds of an expression are made by the same steps.
@@ -73,3 +73,11 @@ def keeps(words, world, saying):
     if sort == "no":
         return value(words, world, saying[1]) == 0
     return keeps_count(words, world, saying)
+
+
+# None where it keeps them all.
+def first_broken(words, world, sayings):
+    for number, saying in enumerate(sayings):
+        if not keeps(words, world, saying):
+            return number
+    return None

@@ -1,6 +1,6 @@
 """Words, and the worlds for them with their codes."""
 
-from worldfind.errors import NoCode, NoName, NoSize
+from worldfind.errors import NoCode, NoName, NoSize, TooBig
 from worldfind.wholes import is_below
 
 GREATEST_SIZE = 4
@@ -48,6 +48,18 @@ def bits(words, size):
     return sum(widths(words, size))
 
 
+def check_size(size):
+    if not is_size(size):
+        raise NoSize("a size is a whole number from 0 to 4")
+
+
+def check_bits(words, size, most):
+    check_size(size)
+    number = bits(words, size)
+    if number > most:
+        raise TooBig(number)
+
+
 def code(words, world):
     total = 0
     place = 0
@@ -58,8 +70,7 @@ def code(words, world):
 
 
 def world_of(words, size, code):
-    if not is_size(size):
-        raise NoSize("a size is a whole number from 0 to 4")
+    check_size(size)
     if not is_below(code, 1 << bits(words, size)):
         raise NoCode("a code is a whole number from 0 to 2 to the bits less 1")
     parts = []
