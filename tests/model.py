@@ -1,5 +1,5 @@
-"""What the tests hold the program against: ties as sets of pairs, and the document's points 8, 9, 13, 14, 16, 19 and 20
-word by word.
+"""What the tests hold the program against: ties as sets of pairs, and the document's points 8, 9, 13, 14, 16, 19, 20 and
+what 23 to 25 ask of an answer, word by word.
 
 Nothing here is drawn from the program itself.
 """
@@ -374,3 +374,67 @@ def worlds_alike(words, world):
 
 def least_alike(words, world):
     return min(worlds_alike(words, world), key=lambda one: code_of_world(words, one))
+
+
+def is_world(words, size, thing):
+    if type(thing) is not tuple or len(thing) != 3 or type(thing[0]) is not int or thing[0] != size:
+        return False
+    if [type(part) for part in thing[1:]] != [tuple, tuple]:
+        return False
+    if [len(part) for part in thing[1:]] != [len(names) for names in words]:
+        return False
+    ends = [2 ** size] * len(words[0]) + [2 ** (size * size)] * len(words[1])
+    return all(is_number(value, end) for value, end in zip(thing[1] + thing[2], ends))
+
+
+def is_told_of_following(theory, size, saying, answer):
+    """Whether the answer shows that the saying follows from the theory, or that it does not."""
+    words, sayings = theory
+    if type(answer) is not tuple or len(answer) != 2:
+        return False
+    if answer[0] == "paper":
+        return paper_holds((words, sayings + (("not", saying),)), size, answer[1])
+    if answer[0] != "world" or not is_world(words, size, answer[1]):
+        return False
+    return keeps_all(theory, answer[1]) and not is_kept(words, answer[1], saying)
+
+
+def is_quarrel(theory, size, answer):
+    words, sayings = theory
+    if type(answer) is not tuple or len(answer) != 3:
+        return False
+    numbers, paper, worlds = answer
+    if type(numbers) is not list or type(worlds) is not list or len(worlds) != len(numbers):
+        return False
+    if not all(is_number(number, len(sayings)) for number in numbers) or sorted(set(numbers)) != numbers:
+        return False
+    chosen = [sayings[number] for number in numbers]
+    if not paper_holds((words, tuple(chosen)), size, paper):
+        return False
+    if not all(is_world(words, size, world) for world in worlds):
+        return False
+    truths = [[is_kept(words, world, saying) for saying in chosen] for world in worlds]
+    return truths == [[place != other for other in range(len(numbers))] for place in range(len(numbers))]
+
+
+def is_told_of_two(one, other, most, answer):
+    """Whether the answer shows that two theories say the same up to a size, or parts them."""
+    words, sides = one[0], (one, other)
+    if type(answer) is not tuple or len(answer) != {"same": 2, "world": 3}.get(answer[0]):
+        return False
+    if answer[0] == "world":
+        world, side = answer[1:]
+        if not is_number(side, 2) or not any(is_world(words, size, world) for size in range(most + 1)):
+            return False
+        return keeps_all(sides[side], world) and not keeps_all(sides[1 - side], world)
+    asked = [(size, side, number) for size in range(most + 1) for side in (0, 1)
+             for number in range(len(sides[side][1]))]
+    if type(answer[1]) is not list or [row[:3] for row in answer[1]] != asked:
+        return False
+    for row in answer[1]:
+        if type(row) is not tuple or [type(part) for part in row[:3]] != [int] * 3 or len(row) != 4:
+            return False
+        size, side, number, paper = row
+        if not is_told_of_following(sides[1 - side], size, sides[side][1][number], ("paper", paper)):
+            return False
+    return True

@@ -45,6 +45,24 @@ def nodes(*sorts):
     return [(name, node) for name, tree in trees() for node in ast.walk(tree) if isinstance(node, sorts)]
 
 
+def nodes_with_parents(*sorts):
+    """Each such node, with its file's name and what it stands in."""
+    found = []
+    for name, tree in trees():
+        for parent in ast.walk(tree):
+            found += [(name, node, parent) for node in ast.iter_child_nodes(parent) if isinstance(node, sorts)]
+    return found
+
+
+def called_name(node):
+    """The name of what is called by itself, or None."""
+    return node.func.id if isinstance(node, ast.Call) and isinstance(node.func, ast.Name) else None
+
+
+def called_method(node):
+    return node.func.attr if isinstance(node, ast.Call) and isinstance(node.func, ast.Attribute) else None
+
+
 def bound_names(node):
     if isinstance(node, (ast.FunctionDef, ast.ClassDef)):
         return [node.name]
@@ -171,6 +189,63 @@ class Expressions(unittest.TestCase):
                 if isinstance(sign, (ast.Is, ast.IsNot)):
                     self.assertIsInstance(right, ast.Constant, (name, node.lineno))
                     self.assertIn(right.value, (None, True, False), (name, node.lineno))
+
+
+class Errors(unittest.TestCase):
+    def test_handlers_take_the_package_s_own_by_name(self):
+        own = [node.name for name, node in nodes(ast.ClassDef) if name == "errors.py"]
+        for name, node in nodes(ast.ExceptHandler):
+            self.assertIsInstance(node.type, ast.Name, (name, node.lineno))
+            self.assertIn(node.type.id, own, (name, node.lineno))
+
+    def test_raised_on_the_spot(self):
+        own = [node.name for name, node in nodes(ast.ClassDef) if name == "errors.py"]
+        for name, node in nodes(ast.Raise):
+            self.assertIn(called_name(node.exc), own, (name, node.lineno))
+            if node.cause is not None:
+                self.assertIs(node.cause.value, None, (name, node.lineno))
+
+
+class OwnCalls(unittest.TestCase):
+    def test_walked_at_once(self):
+        walked = ("zip", "enumerate", "reversed", "range")
+        takers = ("list", "tuple", "dict", "sorted", "sum", "any", "all", "enumerate", "zip", "min", "max")
+        for name, node, parent in nodes_with_parents(ast.Call):
+            if called_name(node) in walked or called_method(node) in ("items", "keys", "values"):
+                in_loop = isinstance(parent, (ast.For, ast.comprehension)) and parent.iter is node
+                in_call = called_name(parent) in takers and parent.args[0] is node
+                self.assertTrue(in_loop or in_call, (name, node.lineno))
+
+    def test_sets_are_not_kept(self):
+        for name, node, parent in nodes_with_parents(ast.Call, ast.Set):
+            if isinstance(node, ast.Set) or called_name(node) in ("set", "frozenset"):
+                is_asked = isinstance(parent, ast.Compare) or called_name(parent) in ("sorted", "len")
+                self.assertTrue(is_asked, (name, node.lineno))
+
+    def test_called_where_they_stand(self):
+        for name, node, parent in nodes_with_parents(ast.Name):
+            if node.id in OWN_NAMES and node.id not in ERRORS + ["int", "str", "bool", "list", "tuple", "dict"]:
+                is_key = isinstance(parent, ast.keyword) and parent.arg == "key"
+                self.assertTrue(is_key or called_name(parent) == node.id and parent.func is node, (name, node.lineno))
+        values = [node.attr for name, node in nodes(ast.Attribute) if isinstance(node.ctx, ast.Store)]
+        for name, node, parent in nodes_with_parents(ast.Attribute):
+            if node.attr in METHODS and node.attr not in values:
+                self.assertTrue(isinstance(parent, ast.Call) and parent.func is node, (name, node.lineno))
+
+    def test_keywords(self):
+        allowed = {"sorted": ["key", "reverse"], "min": ["key", "default"], "max": ["key", "default"],
+                   "sum": ["start"], "enumerate": ["start"], "zip": ["strict"]}
+        for name, node in nodes(ast.Call):
+            if called_method(node) or called_name(node) in OWN_NAMES:
+                given = [keyword.arg for keyword in node.keywords]
+                self.assertEqual([one for one in given if one not in allowed.get(called_name(node), [])], [],
+                                 (name, node.lineno))
+
+    def test_f_strings_have_plain_names(self):
+        for name, node in nodes(ast.FormattedValue):
+            self.assertIsInstance(node.value, ast.Name, (name, node.lineno))
+            self.assertIsNone(node.format_spec, (name, node.lineno))
+            self.assertIn(node.conversion, (-1, ord("r")), (name, node.lineno))
 
 
 class Names(unittest.TestCase):

@@ -1,9 +1,9 @@
 """Sayings read from texts: a text as a list of signs, and the signs as a saying."""
 
 from worldfind.errors import NoText
+from worldfind.wholes import FIGURES, is_written
 from worldfind.worlds import LETTERS
 
-FIGURES = "0123456789"
 SINGLE_SIGNS = "+-&.~^()[]="
 MOST_WITHIN = 20
 MOST_FIGURES = 2
@@ -110,9 +110,7 @@ class Reader:
 
     def limit(self):
         figures = self.take()
-        if not figures.isdigit() or len(figures) > MOST_FIGURES:
-            raise NoText(None)
-        if figures != "0" and figures.startswith("0"):
+        if not is_written(figures, MOST_FIGURES):
             raise NoText(None)
         return int(figures)
 

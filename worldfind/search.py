@@ -41,6 +41,10 @@ class Search:
         self.cases = Cases(theory, size)
         self.needs = [needed_bits(self.cases, saying) for saying in theory[1]]
 
+    # Of just the sayings of these numbers, and a paper with these numbers.
+    def told_of_sayings(self, numbers):
+        return self.told_of_case(numbers, 0, self.cases.whole)
+
     # The saying that is nearest to being settled has a bit taken first.
     def chosen_place(self, numbers, low, high):
         left = [self.needs[number] & high & ~low for number in numbers]
@@ -77,9 +81,7 @@ class Search:
 
 def found(theory, size):
     check_bits(theory[0], size, MOST_BITS)
-    search = Search(theory, size)
-    numbers = list(range(len(theory[1])))
-    return search.told_of_case(numbers, 0, search.cases.whole)
+    return Search(theory, size).told_of_sayings(list(range(len(theory[1]))))
 
 
 def smallest(theory, most):
